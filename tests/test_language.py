@@ -1,0 +1,101 @@
+"""The package keeps to the rules of its language, as far as they are plain to see in its files."""
+
+import ast
+import builtins
+import pathlib
+import re
+import unittest
+
+PACKAGE = pathlib.Path(__file__).resolve().parent.parent / "kinhearth"
+FILES = sorted(path for path in PACKAGE.iterdir() if path.name != "__pycache__")
+NO_NODES = (
+    ast.With, ast.Match, ast.Global, ast.Nonlocal, ast.Yield, ast.YieldFrom, ast.AsyncFunctionDef, ast.Await,
+    ast.NamedExpr, ast.GeneratorExp, ast.Div, ast.Import,
+)
+NO_WORDS = (
+    "type typing typing_extensions enum Enum IntEnum StrEnum Flag IntFlag Generic Protocol ABC ABCMeta namedtuple"
+    " NamedTuple TypedDict TYPE_CHECKING abstractmethod"
+).split()
+OWN_NAMES = (
+    "len range enumerate zip min max sum abs sorted reversed int str bool bytes list tuple dict set frozenset"
+    " isinstance ord repr any all divmod Exception ValueError TypeError KeyError IndexError LookupError"
+    " ZeroDivisionError ArithmeticError OverflowError RuntimeError NotImplementedError AttributeError StopIteration"
+).split()
+TWO_UNDERSCORES = ("__init__", "__eq__", "__repr__", "__str__", "__len__")
+
+
+def nodes(path, *kinds):
+    return [node for node in ast.walk(ast.parse(path.read_text())) if isinstance(node, kinds)]
+
+
+def given_names(path):
+    """Names that the file gives to defs, parameters, locals and values of objects."""
+    names = [node.name for node in nodes(path, ast.FunctionDef, ast.ClassDef)]
+    names += [node.arg for node in nodes(path, ast.arg)]
+    names += [node.id for node in nodes(path, ast.Name) if not isinstance(node.ctx, ast.Load)]
+    return names + [node.attr for node in nodes(path, ast.Attribute)]
+
+
+class Language(unittest.TestCase):
+    def test_files(self):
+        self.assertIn("__init__.py", [path.name for path in FILES])
+        for path in FILES:
+            with self.subTest(path.name):
+                self.assertRegex(path.name, r"^[a-z_][a-z0-9_]*\.py$")
+
+    def test_sizes_and_signs(self):
+        for path in FILES:
+            with self.subTest(path.name):
+                text = path.read_text()
+                self.assertRegex(text, r"^[ -~\n]*$")
+                self.assertLessEqual(len(text.splitlines()), 400)
+                self.assertLessEqual(max(len(row) for row in text.splitlines()), 120)
+                for node in nodes(path, ast.FunctionDef):
+                    self.assertLessEqual(node.end_lineno - node.lineno + 1, 40, node.name)
+
+    def test_words(self):
+        for path in FILES:
+            with self.subTest(path.name):
+                words = set(re.findall(r"[A-Za-z0-9_]+", path.read_text()))
+                self.assertEqual(words & set(NO_WORDS), set())
+
+    def test_nodes(self):
+        for path in FILES:
+            with self.subTest(path.name):
+                self.assertEqual(nodes(path, *NO_NODES), [])
+                for node in nodes(path, ast.FunctionDef, ast.ClassDef):
+                    self.assertEqual(node.decorator_list, [])
+                for node in nodes(path, ast.Constant):
+                    self.assertNotIsInstance(node.value, float)
+                    self.assertNotIn("%", node.value if isinstance(node.value, str) else "")
+
+    def test_imports_are_the_packages_own(self):
+        for path in FILES:
+            with self.subTest(path.name):
+                for node in nodes(path, ast.ImportFrom):
+                    self.assertEqual(node.level, 0)
+                    self.assertTrue((PACKAGE / (node.module.removeprefix("kinhearth.") + ".py")).exists(), node.module)
+
+    def test_names(self):
+        for path in FILES:
+            with self.subTest(path.name):
+                drawn = [alias.name for node in nodes(path, ast.ImportFrom) for alias in node.names]
+                for name in given_names(path):
+                    self.assertTrue(name in TWO_UNDERSCORES or not name.startswith("_"), name)
+                for node in nodes(path, ast.Name, ast.arg):
+                    name = node.arg if isinstance(node, ast.arg) else node.id
+                    given = isinstance(node, ast.arg) or not isinstance(node.ctx, ast.Load)
+                    self.assertFalse(given and (name in drawn or hasattr(builtins, name)), name)
+                    self.assertTrue(given or name in OWN_NAMES or not hasattr(builtins, name), name)
+
+    def test_no_name_is_a_method_here_and_a_value_there(self):
+        methods, values = set(), set()
+        for path in FILES:
+            for kind in nodes(path, ast.ClassDef):
+                methods |= {node.name for node in kind.body if isinstance(node, ast.FunctionDef)}
+            values |= {node.attr for node in nodes(path, ast.Attribute) if isinstance(node.ctx, ast.Store)}
+        self.assertEqual(methods & values, set())
+
+
+if __name__ == "__main__":
+    unittest.main()
