@@ -5,42 +5,7 @@ import unittest
 
 from kinhearth.errors import BadLand, BadTurn, BadWord, NoSection, Unequal
 from kinhearth.land import Land, alike_lands, cousins, land_of, man_line, renamed, woman_line
-from tests.deadline import soon
-
-FIFTY = 10 ** 49 + 12345678901234567
-
-# Four sections in which both kinds of cousins are of the wife's section.
-KARIERA = Land((2, 3, 0, 1), (3, 2, 1, 0), (1, 0, 3, 2))
-# Three sections in a ring: a mother's are her child's, a man weds the next one.
-RING = Land((0, 1, 2), (1, 2, 0), (1, 2, 0))
-# No two of its three turnings are alike, and none is its own turning back.
-CROOKED = Land((1, 2, 3, 4, 0), (2, 4, 3, 0, 1), (1, 3, 2, 4, 0))
-
-
-def all_turns(size):
-    return list(itertools.permutations(range(size)))
-
-
-def all_lands(most):
-    """Each land of the sizes from 2 to `most`, its turnings reckoned here."""
-    lands = []
-    for size in range(2, most + 1):
-        for mother, wife in itertools.product(all_turns(size), repeat=2):
-            lands.append(Land(mother, tuple(mother[wife[man]] for man in range(size)), wife))
-    return lands
-
-
-def great_lands():
-    """A land of each size, with a ring of mothers and weddings that turn all round."""
-    lands = []
-    for size in range(2, 9):
-        mother = tuple((at + 1) % size for at in range(size))
-        wife = tuple(range(size))[::-1]
-        lands.append(Land(mother, tuple(mother[at] for at in wife), wife))
-    return lands
-
-
-LANDS = all_lands(3) + all_lands(4)[::17] + great_lands() + [KARIERA, RING, CROOKED]
+from tests.helper import CROOKED, FIFTY, KARIERA, LANDS, RING, all_lands, all_turns, great_lands, soon
 
 
 class Making(unittest.TestCase):

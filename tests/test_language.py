@@ -96,6 +96,23 @@ class Language(unittest.TestCase):
             values |= {node.attr for node in nodes(path, ast.Attribute) if isinstance(node.ctx, ast.Store)}
         self.assertEqual(methods & values, set())
 
+    def test_no_set_is_added_to(self):
+        # As `Joins` has a method `add`, whatever is added to must be plain to see: that method takes nothing.
+        for path in FILES:
+            for node in nodes(path, ast.Call):
+                if isinstance(node.func, ast.Attribute) and node.func.attr in ("add", "discard"):
+                    self.assertEqual(node.args, [], path.name)
+
+    def test_nothing_is_called_like_a_class_or_def_of_its_file(self):
+        for path in FILES:
+            with self.subTest(path.name):
+                top = [node.name for node in ast.parse(path.read_text()).body if hasattr(node, "name")]
+                self.assertEqual(len(top), len(set(top)))
+                for node in nodes(path, ast.Name, ast.arg):
+                    name = node.arg if isinstance(node, ast.arg) else node.id
+                    if isinstance(node, ast.arg) or not isinstance(node.ctx, ast.Load):
+                        self.assertNotIn(name, top)
+
 
 if __name__ == "__main__":
     unittest.main()

@@ -6,19 +6,13 @@ import unittest
 
 from kinhearth.errors import BadTurn
 from kinhearth.turns import back, behind, fixed, is_turn, number_of, numbered, order_of, rounds, still, times
-from tests.deadline import soon
+from tests.helper import FIFTY, all_turns, soon
 
-FIFTY = 10 ** 49 + 12345678901234567
 SIXTY = 10 ** 60 - 1
 NO_TURNS = [
     (0, 0), (1,), (1, 2), (0, 2), (-1, 0), (0, 1, 1), (0, 1, 3), (-1, 0, 1), (FIFTY, 0), (0, -FIFTY),
     (2, 2, 2), (0, 1, 2, 3, 4, 5, 6, 8), (7, 6, 5, 4, 3, 2, 1, 1),
 ]
-
-
-def all_turns(size):
-    """By rising numbers, as itertools tells them in the order of point 7."""
-    return list(itertools.permutations(range(size)))
 
 
 def some_turns(size):

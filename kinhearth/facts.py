@@ -1,0 +1,41 @@
+"""Facts: rows (number, kind, one, other), the ties and sayings that a book keeps."""
+
+from kinhearth.errors import BadWord
+
+SAID = "said"
+SIBLING = "sibling"
+# For each kind of tie the letter that leads from its first one to its other one.
+TIE_LETTERS = {"mother": "m", "father": "f", "wed": "w", "sibling": "s"}
+
+
+def is_tie(kind):
+    """Whether a text is a kind of tie."""
+    return kind in TIE_LETTERS
+
+
+def tie_turn(land, kind):
+    """The turning of a kind of tie, from its first one to its other one."""
+    if not is_tie(kind):
+        raise BadWord(kind)
+    return land.step(TIE_LETTERS[kind])
+
+
+def fact_key(kind, one, other):
+    """A key that two facts have in common just where they are the same, whatever their numbers."""
+    if kind == SIBLING:
+        return (kind, min(one, other), max(one, other))
+    return (kind, one, other)
+
+
+def spoken_of(fact):
+    """The names that a fact speaks of: its first one and, of a tie, its other one."""
+    number, kind, one, other = fact
+    return [one, other] if is_tie(kind) else [one]
+
+
+def keep_fact(joins, land, places, fact):
+    """Tells a fact to a `Joins` in which the names have these places; whether it is kept."""
+    number, kind, one, other = fact
+    if kind == SAID:
+        return joins.say(places[one], other)
+    return joins.tie(places[one], places[other], tie_turn(land, kind))
