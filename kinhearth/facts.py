@@ -1,11 +1,18 @@
 """Facts: rows (number, kind, one, other), the ties and sayings that a book keeps."""
 
 from kinhearth.errors import BadWord
+from kinhearth.terms import WAYS_BACK
 
 SAID = "said"
 SIBLING = "sibling"
+WED = "wed"
+# The kinds of ties of which each one may have a single kept one.
+PARENTS = ("mother", "father")
 # For each kind of tie the letter that leads from its first one to its other one.
 TIE_LETTERS = {"mother": "m", "father": "f", "wed": "w", "sibling": "s"}
+# The ways in which a tie is gone: from its first one to its other one, and from that one to the first.
+FORTH = 1
+BACK = -1
 
 
 def is_tie(kind):
@@ -18,6 +25,13 @@ def tie_turn(land, kind):
     if not is_tie(kind):
         raise BadWord(kind)
     return land.step(TIE_LETTERS[kind])
+
+
+def tie_step(fact, way):
+    """A tie gone one way: from whom, by which letter, to whom."""
+    number, kind, one, other = fact
+    letter = TIE_LETTERS[kind]
+    return (one, letter, other) if way == FORTH else (other, WAYS_BACK[letter], one)
 
 
 def fact_key(kind, one, other):
@@ -39,3 +53,11 @@ def keep_fact(joins, land, places, fact):
     if kind == SAID:
         return joins.say(places[one], other)
     return joins.tie(places[one], places[other], tie_turn(land, kind))
+
+
+def fact_fits(joins, land, places, fact):
+    """Whether a `Joins` in which the names have these places would keep a fact; nothing is changed."""
+    number, kind, one, other = fact
+    if kind == SAID:
+        return other in joins.open_at(places[one])
+    return joins.left(places[one], places[other], tie_turn(land, kind)) != []

@@ -1,6 +1,6 @@
 """Joins: people by numbers, ties and sayings, and the sections that these leave open."""
 
-from kinhearth.turns import back, behind, still
+from kinhearth.turns import followed, still, turned_back
 
 
 class Joins:
@@ -54,6 +54,10 @@ class Joins:
         """Whether a row of ties leads from the one to the other."""
         return self.heads[one] == self.heads[other]
 
+    def head_of(self, one):
+        """The one on whom all hang who are together with one: the same for each of them."""
+        return self.heads[one]
+
     def pairs(self, one, other):
         """All pairs of sections that the two have in one dealing, rising."""
         if not self.together(one, other):
@@ -89,7 +93,7 @@ class Joins:
         """Hangs all who are together with the one or with the other on one head."""
         # The fewer ones are moved: so nobody is moved often, however many there are.
         if len(self.members[self.heads[one]]) < len(self.members[self.heads[other]]):
-            self.move(one, other, back(turn))
+            self.move(one, other, turned_back(turn))
         else:
             self.move(other, one, turn)
 
@@ -97,11 +101,11 @@ class Joins:
         """Hangs all who are together with the mover on the stayer's head; the turning is from stayer to mover."""
         head = self.heads[stayer]
         old_head = self.heads[mover]
-        to_mover = behind(self.leads[stayer], turn)
-        to_old_head = behind(to_mover, back(self.leads[mover]))
+        to_mover = followed(self.leads[stayer], turn)
+        to_old_head = followed(to_mover, turned_back(self.leads[mover]))
         moved = self.members.pop(old_head)
         self.free.pop(old_head)
         for number in moved:
             self.heads[number] = head
-            self.leads[number] = behind(to_old_head, self.leads[number])
+            self.leads[number] = followed(to_old_head, self.leads[number])
         self.members[head].extend(moved)

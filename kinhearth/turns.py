@@ -22,12 +22,22 @@ def behind(first, then):
     check_turn(then)
     if len(first) != len(then):
         raise BadTurn(f"the sizes {len(first)} and {len(then)} are unlike")
+    return followed(first, then)
+
+
+def followed(first, then):
+    """As `behind`, of what is known to be two turnings of one size."""
     return tuple([then[section] for section in first])
 
 
 def back(turn):
     """The turning that leads each section to the one that is led there."""
     check_turn(turn)
+    return turned_back(turn)
+
+
+def turned_back(turn):
+    """As `back`, of what is known to be a turning."""
     return tuple([turn.index(section) for section in range(len(turn))])
 
 

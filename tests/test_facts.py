@@ -5,28 +5,14 @@ import random
 import unittest
 
 from kinhearth.errors import BadWord
-from kinhearth.facts import SAID, fact_key, is_tie, keep_fact, spoken_of, tie_turn
+from kinhearth.facts import BACK, FORTH, SAID, fact_fits, fact_key, is_tie, keep_fact, spoken_of, tie_step, tie_turn
 from kinhearth.joins import Joins
 from kinhearth.terms import turn_of
-from tests.helper import CROOKED, KARIERA, LANDS, RING
+from kinhearth.turns import back
+from tests.helper import CROOKED, KARIERA, LANDS, RING, TIES, kept_by
 
-KINDS = ["mother", "father", "wed", "sibling"]
 NO_KINDS = ["", "said", "m", "f", "w", "s", "Mother", "mother ", " mother", "mothers", "wife", "mother\n", "child"]
 NAMES = ["ann", "bob", "cid"]
-
-
-def kept_by(land, dealing, fact):
-    """Whether a dealing keeps a fact, by the words of points 1 and 11."""
-    number, kind, one, other = fact
-    if kind == "said":
-        return dealing[one] == other
-    if kind == "mother":
-        return land.mother[dealing[other]] == dealing[one]
-    if kind == "father":
-        return land.father[dealing[other]] == dealing[one]
-    if kind == "wed":
-        return land.wife[dealing[one]] == dealing[other]
-    return dealing[one] == dealing[other]
 
 
 def all_dealings(land):
@@ -36,7 +22,7 @@ def all_dealings(land):
 def some_facts(chance, land, many):
     facts = []
     for number in range(many):
-        kind = chance.choice(KINDS + [SAID])
+        kind = chance.choice(TIES + [SAID])
         other = chance.randrange(land.size) if kind == SAID else chance.choice(NAMES)
         facts.append((number, kind, chance.choice(NAMES), other))
     return facts
@@ -51,7 +37,7 @@ class TurningsOfKinds(unittest.TestCase):
 
     def test_they_are_those_of_their_letters(self):
         for land in LANDS:
-            for kind, letter in zip(KINDS, "mfws"):
+            for kind, letter in zip(TIES, "mfws"):
                 self.assertEqual(tie_turn(land, kind), turn_of(land, letter))
                 self.assertIsInstance(tie_turn(land, kind), tuple)
 
@@ -61,10 +47,26 @@ class TurningsOfKinds(unittest.TestCase):
                 self.assertRaises(BadWord, tie_turn, KARIERA, kind)
 
     def test_kinds_of_ties(self):
-        for kind in KINDS:
+        for kind in TIES:
             self.assertIs(is_tie(kind), True)
         for kind in NO_KINDS:
             self.assertIs(is_tie(kind), False)
+
+
+class StepsOfTies(unittest.TestCase):
+    def test_forth_and_back(self):
+        self.assertEqual((FORTH, BACK), (1, -1))
+        for kind, letter, letter_back in zip(TIES, "mfws", "ckhs"):
+            fact = (7, kind, "ann", "bob")
+            self.assertEqual(tie_step(fact, FORTH), ("ann", letter, "bob"))
+            self.assertEqual(tie_step(fact, BACK), ("bob", letter_back, "ann"))
+
+    def test_their_turnings_lead_back(self):
+        for land in LANDS:
+            for kind in TIES:
+                letters = [tie_step((0, kind, "ann", "bob"), way)[1] for way in (FORTH, BACK)]
+                self.assertEqual(land.step(letters[0]), tie_turn(land, kind))
+                self.assertEqual(land.step(letters[1]), back(tie_turn(land, kind)))
 
 
 class SameFacts(unittest.TestCase):
@@ -79,7 +81,7 @@ class SameFacts(unittest.TestCase):
 
     def test_no_two_unlike_facts_have_one_key(self):
         facts = [(SAID, name, section) for name in NAMES for section in range(8)]
-        facts += list(itertools.product(KINDS, NAMES, NAMES))
+        facts += list(itertools.product(TIES, NAMES, NAMES))
         for one, other in itertools.product(facts, repeat=2):
             same = one == other or (one[0] == other[0] == "sibling" and one[1:] == other[:0:-1])
             self.assertIs(fact_key(*one) == fact_key(*other), same)
@@ -87,7 +89,7 @@ class SameFacts(unittest.TestCase):
 
 class SpokenOf(unittest.TestCase):
     def test_both_of_a_tie(self):
-        for kind in KINDS:
+        for kind in TIES:
             self.assertEqual(spoken_of((7, kind, "ann", "bob")), ["ann", "bob"])
 
     def test_the_one_of_a_saying(self):
@@ -102,6 +104,8 @@ class Keeping(unittest.TestCase):
         places = {name: joins.add() for name in reversed(NAMES)}
         for fact in facts:
             left = [dealing for dealing in dealings if kept_by(land, dealing, fact)]
+            self.assertIs(fact_fits(joins, land, places, fact), left != [])
+            self.assertEqual(joins.dealt(), len(dealings))
             self.assertIs(keep_fact(joins, land, places, fact), left != [])
             dealings = left or dealings
             self.assertEqual(joins.dealt(), len(dealings))
@@ -110,7 +114,7 @@ class Keeping(unittest.TestCase):
 
     def test_each_kind(self):
         for land in (KARIERA, RING, CROOKED):
-            for kind in KINDS:
+            for kind in TIES:
                 self.kept_in_turn(land, [(0, "said", "ann", 1), (1, kind, "ann", "bob"), (2, kind, "cid", "ann")])
 
     def test_rows_of_facts(self):

@@ -416,6 +416,14 @@ class Together(unittest.TestCase):
         self.assertIs(joins.together(0, 1), False)
         self.assertIs(joins.together(1, 0), False)
 
+    def test_one_head_for_those_who_are_together(self):
+        for seed in range(10):
+            joins, chance = filled(4, 9), random.Random(seed)
+            for deed in some_deeds(chance, 4, 9, 6):
+                do(joins, deed)
+                for one, other in itertools.product(range(9), repeat=2):
+                    self.assertIs(joins.head_of(one) == joins.head_of(other), joins.together(one, other))
+
 
 class OtherOrders(unittest.TestCase):
     def test_the_same_in_another_order(self):
