@@ -34,6 +34,17 @@ def tie_step(fact, way):
     return (one, letter, other) if way == FORTH else (other, WAYS_BACK[letter], one)
 
 
+def tie_steps(kept):
+    """All ties of some facts, each gone both ways: rows of from whom, letter, to whom, number and way."""
+    steps = []
+    for fact in kept:
+        if is_tie(fact[1]):
+            for way in (FORTH, BACK):
+                start, letter, goal = tie_step(fact, way)
+                steps.append((start, letter, goal, fact[0], way))
+    return steps
+
+
 def fact_key(kind, one, other):
     """A key that two facts have in common just where they are the same, whatever their numbers."""
     if kind == SIBLING:
@@ -61,3 +72,10 @@ def fact_fits(joins, land, places, fact):
     if kind == SAID:
         return other in joins.open_at(places[one])
     return joins.left(places[one], places[other], tie_turn(land, kind)) != []
+
+
+def tell_fact(hearth, kind, one, other):
+    """Tells a book a tie or a saying; its number."""
+    if kind == SAID:
+        return hearth.say(one, other)
+    return hearth.tie(kind, one, other)

@@ -1,6 +1,6 @@
 """Papers: walks over ties that show that somebody has not a section in any dealing."""
 
-from kinhearth.facts import BACK, FORTH, SAID, is_tie, tie_step
+from kinhearth.facts import BACK, FORTH, SAID, is_tie, tie_step, tie_steps
 
 
 def barring(land, kept, person):
@@ -13,11 +13,8 @@ def barring(land, kept, person):
 def steps_from(land, kept):
     """For each name the ties gone from there: rows of number, way, goal and turning."""
     steps = {}
-    for fact in kept:
-        if is_tie(fact[1]):
-            for way in (FORTH, BACK):
-                start, letter, goal = tie_step(fact, way)
-                steps.setdefault(start, []).append((fact[0], way, goal, land.step(letter)))
+    for start, letter, goal, number, way in tie_steps(kept):
+        steps.setdefault(start, []).append((number, way, goal, land.step(letter)))
     return steps
 
 

@@ -16,14 +16,17 @@ def turn_of(land, word):
     return turn
 
 
-def way_back(word):
-    """The word that goes the same steps back in turned order."""
-    letters = []
-    for letter in word[::-1]:
+def check_word(word):
+    """Refuses a text that is no word of kin."""
+    for letter in word:
         if letter not in WAYS_BACK:
             raise BadWord(letter)
-        letters.append(WAYS_BACK[letter])
-    return "".join(letters)
+
+
+def way_back(word):
+    """The word that goes the same steps back in turned order."""
+    check_word(word)
+    return "".join([WAYS_BACK[letter] for letter in word[::-1]])
 
 
 def alike(land, one, other):

@@ -44,6 +44,8 @@ def great_lands():
         lands.append(Land(mother, tuple(mother[at] for at in wife), wife))
     return lands
 
+# By their sections anybody of one section may be tied to anybody of the same one.
+STILL_LAND = Land((0, 1), (0, 1), (0, 1))
 
 TIES = ["mother", "father", "wed", "sibling"]
 SMALL_LETTERS = "abcdefghijklmnopqrstuvwxyz"

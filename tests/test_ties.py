@@ -6,16 +6,13 @@ import unittest
 
 from kinhearth.errors import Barred, OwnElder
 from kinhearth.hearth import Hearth
-from kinhearth.land import Land
 from kinhearth.papers import stands
 from tests.helper import (
-    CROOKED, KARIERA, LANDS, RING, TIES, all_dealings, all_told, dealings_of, done, filled, refusal, refused_with,
-    shows,
+    CROOKED, KARIERA, LANDS, RING, STILL_LAND, TIES, all_dealings, all_told, dealings_of, done, filled, refusal,
+    refused_with, shows,
 )
 
 NO_KINDS = ["", "said", "m", "f", "Mother", "mother ", " mother", "mothers", "wife", "mother\n", "child", "take"]
-# A land in which by their sections anybody may be tied to anybody of the same one.
-STILL_LAND = Land((0, 1), (0, 1), (0, 1))
 STRANGERS = ["zed", "", "Ann", "an", "ann bob", "ann "]
 
 
