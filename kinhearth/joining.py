@@ -1,6 +1,6 @@
 """Joining: a new book of two books, and a book of one group alone."""
 
-from kinhearth.errors import Taken, Twice, UnlikeLands, WrongSide
+from kinhearth.errors import Twice, UnlikeLands, WrongSide
 from kinhearth.facts import is_tie, tell_fact
 from kinhearth.hearth import Hearth
 from kinhearth.land import alike_lands
@@ -11,11 +11,10 @@ def joined(one, other, same):
     if not alike_lands(one.land, other.land):
         raise UnlikeLands()
     names = paired_names(one, other, same)
-    newcomers = [name for name in other.people() if name not in names]
-    check_free(one, newcomers)
     book = Hearth(one.land)
     tell_people(book, one, one.people())
-    tell_people(book, other, newcomers)
+    # A newcomer whose name the first book has is refused here, ahead of all facts.
+    tell_people(book, other, [name for name in other.people() if name not in names])
     tell_facts(book, one.kept())
     tell_facts(book, [renamed_fact(fact, names) for fact in other.kept()])
     # A twin has the same in it, but nothing that could be undone.
@@ -33,14 +32,6 @@ def paired_names(one, other, same):
             raise WrongSide(f"{here} {there}")
         names[there] = here
     return names
-
-
-def check_free(hearth, names):
-    """Refuses names that a book has."""
-    people = hearth.people()
-    for name in names:
-        if name in people:
-            raise Taken(name)
 
 
 def renamed_fact(fact, names):

@@ -279,6 +279,14 @@ class Forebears(unittest.TestCase):
         self.hearth.tie("father", "unc", "opa")
         self.assertEqual(nearest(self.hearth, "unc", "dad"), ["gran", "opa"])
         self.assertEqual(nearest(self.hearth, "dad", "mum"), ["gran", "opa"])
+        # Here the father came into the book ahead of the mother, and the grandmother ahead of both.
+        hearth = filled(STILL_LAND, "oma/w pa/m ma/w kit/m kat/w kid/m", [
+            ("mother", "kit", "ma"), ("father", "kit", "pa"), ("father", "kat", "pa"), ("mother", "kat", "ma"),
+            ("mother", "ma", "oma"), ("mother", "kid", "oma"),
+        ])
+        self.assertEqual(nearest(hearth, "kit", "kat"), ["pa", "ma"])
+        self.assertEqual(nearest(hearth, "kat", "kit"), ["pa", "ma"])
+        self.assertEqual(nearest(hearth, "kid", "kat"), ["oma"])
 
     def test_the_sum_of_both_counts(self):
         # To kit dan is as near as bea is, and comes first, but from kat it is a step more to him.

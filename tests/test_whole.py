@@ -1,6 +1,8 @@
 """The whole program: points 1 to 4, each refusal once, books that go their own ways, told lists, great books."""
 
 import copy
+import importlib
+import inspect
 import random
 import unittest
 
@@ -17,6 +19,42 @@ FACTS = [("mother", "cid", "ann"), ("wed", "bob", "ann"), ("said", "bob", 0)]
 
 def some_book():
     return filled(KARIERA, "ann/w bob/m cid/m", FACTS)
+
+
+INTERFACE = {
+    "turns": "is_turn(row) still(size) behind(first,then) back(turn) fixed(turn) rounds(turn) order_of(turn)"
+             " times(turn,many) number_of(turn) numbered(size,number)",
+    "land": "Land(mother,father,wife) Land.step(self,letter) land_of(mother,wife) alike_lands(one,other)"
+            " renamed(land,turn) woman_line(land,section,many) man_line(land,section,many) cousins(land)",
+    "terms": "turn_of(land,word) way_back(word) alike(land,one,other) least_words(land,most) shortest(land,word,most)",
+    "joins": "Joins(size) Joins.add(self) Joins.tie(self,one,other,turn) Joins.say(self,one,section)"
+             " Joins.open_at(self,one) Joins.left(self,one,other,turn) Joins.together(self,one,other)"
+             " Joins.pairs(self,one,other) Joins.dealt(self) Joins.dealt_with(self,one,other,turn)",
+    "hearth": "Hearth(land) Hearth.person(self,name,side) Hearth.tie(self,kind,one,other)"
+              " Hearth.say(self,name,section) Hearth.take(self,number) Hearth.undo(self) Hearth.redo(self)"
+              " Hearth.undoable(self) Hearth.redoable(self) Hearth.people(self) Hearth.side_of(self,name)"
+              " Hearth.kept(self) Hearth.has(self,kind,one,other) Hearth.twin(self)",
+    "papers": "barring(land,kept,person) stands(land,kept,person,section,paper)",
+    "asks": "open_of(hearth,name) between(hearth,one,other) dealings(hearth) dealing(hearth,name,section)"
+            " groups(hearth) settled(hearth) settlers(hearth)",
+    "suit": "may(hearth,kind,one,other) left_to(hearth,kind,one,other) left_by(hearth,kind,one,other)"
+            " suits(hearth,name)",
+    "roads": "called(hearth,name,word) road(hearth,name,goal) forebears(hearth,name) nearest(hearth,one,other)",
+    "joining": "joined(one,other,same) group_book(hearth,name)",
+    "notes": "shown_land(land) shown(hearth) read_land(text) read(text)",
+    "desk": "Desk() Desk.run(self,row) Desk.book(self,name) Desk.books_held(self) Desk.log(self)",
+}
+
+
+class Interface(unittest.TestCase):
+    def test_names_and_arguments(self):
+        for module, told in INTERFACE.items():
+            for entry in told.split(" "):
+                name, words = entry.rstrip(")").split("(")
+                thing = importlib.import_module(f"kinhearth.{module}")
+                for part in name.split("."):
+                    thing = getattr(thing, part)
+                self.assertEqual(",".join(inspect.signature(thing).parameters), words, entry)
 
 
 class Refusals(unittest.TestCase):
@@ -69,7 +107,8 @@ class Refusals(unittest.TestCase):
         desk.run("open c 01 01")
         for row, word in (
             ("open d 11 01", "no land"), ("man b Eve", "no name"), ("man b bob", "name taken"),
-            ("who b eve", "no person"), ("said b ann 4", "no section"), ("wed b ann bob", "wrong side"), ("wed b bob ann", "told twice"),
+            ("who b eve", "no person"), ("said b ann 4", "no section"), ("wed b ann bob", "wrong side"),
+            ("wed b bob ann", "told twice"),
             ("mother b ann ann", "own elder"), ("sibling b cid bob", "barred"), ("take b 2", "no fact"),
             ("redo b", "nothing left"), ("join d b c none", "unlike lands"), ("count", "no text"),
             ("count d", "no book"),
