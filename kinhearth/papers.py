@@ -83,7 +83,7 @@ def stands(land, kept, person, section, paper):
 
 def all_numbers(walk, end):
     """Whether neither True nor False stands in a paper: Python counts them as 1 and 0, but they are no numbers."""
-    return not any([isinstance(number, bool) for step in walk + [(end,)] for number in step])
+    return not isinstance(end, bool) and not any([isinstance(number, bool) for step in walk for number in step])
 
 
 def can_go(facts, name, number, way):
